@@ -1,0 +1,1 @@
+"""Lookrows: files that are replaced one by one and read one by one."""
