@@ -1,8 +1,9 @@
-"""What several test files share: objects that are no names or integers, plans, and slow but plain definitions."""
+"""What several test files share: objects that are no names or integers, plans, tables, slow but plain definitions."""
 
-from itertools import permutations
+from itertools import permutations, product
 from random import Random
 
+from lookrows.bounds import Bounds
 from lookrows.plans import Plan
 
 NOT_NAMES = [
@@ -120,3 +121,81 @@ def great_plan():
             if i != j:
                 plan[f"s{i}", f"s{j}"] = (7 * i + 5 * j) % 100 if i < j else 1 + (11 * i + 3 * j) % 99
     return plan
+
+
+def bounds_of(names, *entries):
+    """Bounds over names in one string, with entries (a, b, n)."""
+    bounds = Bounds(names.split())
+    for a, b, n in entries:
+        bounds[a, b] = n
+    return bounds
+
+
+def entries(bounds):
+    """The names of bounds and the integer entries of different files."""
+    pairs = permutations(bounds.names, 2)
+    return bounds.names, {(a, b): bounds[a, b] for a, b in pairs if bounds[a, b] is not None}
+
+
+def ring_sum(bounds, ring):
+    """The sum of a ring, or None if an entry is None."""
+    parts = [bounds[ring[k - 1], ring[k]] for k in range(len(ring))]
+    return None if None in parts else sum(parts)
+
+
+def rings(bounds):
+    """Each ring as a tuple (sum, files), beginning anywhere."""
+    found = []
+    for count in range(2, len(bounds) + 1):
+        for ring in permutations(bounds.names, count):
+            if ring_sum(bounds, ring) is not None:
+                found.append((ring_sum(bounds, ring), ring))
+    return found
+
+
+def has_set(bounds):
+    """Whether no ring has a sum below 0."""
+    return all(total >= 0 for total, _ in rings(bounds))
+
+
+def slow_entry(bounds, a, b):
+    """The least sum along a path from a to b, from all paths; for bounds with a set."""
+    if a == b:
+        return 0
+    others = [name for name in bounds.names if name not in (a, b)]
+    found = []
+    for count in range(len(others) + 1):
+        for between in permutations(others, count):
+            path = [a, *between, b]
+            parts = [bounds[pair] for pair in zip(path, path[1:])]
+            if None not in parts:
+                found.append(sum(parts))
+    return min(found, default=None)
+
+
+def slow_closed(bounds):
+    """The names and integer entries of the closed table, from all paths."""
+    table = {(a, b): slow_entry(bounds, a, b) for a, b in permutations(bounds.names, 2)}
+    return bounds.names, {pair: table[pair] for pair in table if table[pair] is not None}
+
+
+def slow_sets(bounds, low, high):
+    """The sets with editions from low to high that meet all entries, as tuples in ascending order."""
+    found = []
+    for editions in product(range(low, high + 1), repeat=len(bounds)):
+        x = dict(zip(bounds.names, editions))
+        if all(x[a] <= x[b] + n for (a, b), n in entries(bounds)[1].items()):
+            found.append(editions)
+    return found
+
+
+def random_bounds(many, count, least, most, seed, share=0.6):
+    """Bounds over up to count names, the same ones in each run of the tests."""
+    random = Random(seed)
+    for _ in range(many):
+        names = random.sample("abcdefghij", random.randint(0, count))
+        bounds = Bounds(names)
+        for a, b in permutations(names, 2):
+            if random.random() < share:
+                bounds[a, b] = random.randint(least, most)
+        yield bounds

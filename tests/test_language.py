@@ -4,9 +4,8 @@ import ast
 import builtins
 import inspect
 import unittest
+from importlib import import_module
 from pathlib import Path
-
-from lookrows.plans import Plan
 
 PACKAGE = Path(__file__).resolve().parent.parent / "lookrows"
 
@@ -26,12 +25,29 @@ BARRED = (
 )
 WORDS = {"mro", "elements", "open", "input", "law", "type", "typing", "enum", "eval", "exec", "globals", "vars", "id"}
 
-# The functions and classes of the interface, by their files, with the methods that each class defines itself.
-FUNCTIONS = {"plans": ["joined"], "ways": ["way", "lean", "needed"]}
-METHODS = [
-    "__init__", "define", "__getitem__", "__setitem__", "steps", "files", "step_of", "files_of", "rules", "copy",
-    "__contains__", "__len__", "__le__", "__or__", "__ior__",
-]
+# The functions and classes of the interface, by their files, with the methods and properties that each class defines
+# itself.
+FUNCTIONS = {
+    "plans": ["joined"], "ways": ["way", "lean", "needed"], "runs": ["watched", "counted"], "rows": ["shortest"],
+}
+CLASSES = {
+    "plans": {"Plan": (
+        "__init__ define __getitem__ __setitem__ step_of files_of rules copy __contains__ __len__ __le__ __or__"
+        " __ior__",
+        "steps files",
+    )},
+    "bounds": {"Bounds": (
+        "__init__ __getitem__ __setitem__ ring closed spread sets __call__ __contains__ __len__ __bool__ __and__ __or__"
+        " __iand__ __ior__ __le__ __neg__ __lshift__ __rshift__",
+        "names",
+    )},
+    "rows": {"Row": (
+        "__init__ before blocks __getitem__ __len__ __contains__ __add__ __mul__ __rmul__ __neg__ __eq__ __le__",
+        "looks files",
+    )},
+}
+# How sorted, min and max may be asked beside classes with an order: with numbers or strings that are plainly such.
+PLAIN_CALLS = {"int", "len", "str", "ord", "repr", "range"}
 
 
 def files():
@@ -41,6 +57,14 @@ def files():
 def trees():
     for file in files():
         yield file.stem, ast.parse(file.read_text(encoding="utf-8"))
+
+
+def is_plain(node):
+    """Whether the code shows that this is a number, or a list of numbers or strings."""
+    if isinstance(node, ast.ListComp):
+        return is_plain(node.elt)
+    called = node.func.id if isinstance(node, ast.Call) and isinstance(node.func, ast.Name) else None
+    return isinstance(node, ast.Constant) or called in PLAIN_CALLS
 
 
 class LanguageTest(unittest.TestCase):
@@ -98,14 +122,50 @@ class LanguageTest(unittest.TestCase):
                     if "__getitem__" in methods:
                         self.assertIn("__iter__", methods, (name, node.name))
 
+    def test_what_is_put_in_order_is_plain(self):
+        for name, tree in trees():
+            for node in ast.walk(tree):
+                if isinstance(node, ast.Call) and isinstance(node.func, ast.Name):
+                    if node.func.id in ("sorted", "min", "max"):
+                        keys = [word.value.id for word in node.keywords if word.arg == "key"]
+                        plain = keys and keys[0] in ("len", "int", "str") or any(map(is_plain, node.args))
+                        self.assertTrue(plain, (name, node.lineno))
+                if isinstance(node, ast.Attribute):
+                    self.assertNotEqual(node.attr, "sort", (name, node.lineno))
+
+    def test_generators_have_names_of_their_own(self):
+        functions, generators = [], []
+        for name, tree in trees():
+            for node in ast.walk(tree):
+                if isinstance(node, ast.FunctionDef):
+                    functions.append(node.name)
+                    if any(isinstance(part, (ast.Yield, ast.YieldFrom)) for part in ast.walk(node)):
+                        generators.append(node.name)
+        self.assertEqual([name for name in generators if functions.count(name) > 1], [])
+
+    def test_no_two_files_import_from_each_other(self):
+        imported = {name: set() for name, _ in trees()}
+        for name, tree in trees():
+            for node in ast.walk(tree):
+                if isinstance(node, ast.ImportFrom) and node.module.startswith("lookrows."):
+                    imported[name].add(node.module.partition(".")[2])
+        for _ in imported:
+            for name in imported:
+                imported[name] = imported[name].union(*[imported[other] for other in imported[name]])
+        self.assertEqual([name for name in imported if name in imported[name]], [])
+
     def test_the_interface_stands_in_its_files(self):
         for name, functions in FUNCTIONS.items():
-            module = __import__(f"lookrows.{name}", fromlist=[name])
+            module = import_module(f"lookrows.{name}")
             for function in functions:
                 self.assertTrue(inspect.isfunction(getattr(module, function)))
                 self.assertEqual(getattr(module, function).__module__, module.__name__)
-        self.assertEqual(Plan.__module__, "lookrows.plans")
-        for method in METHODS:
-            self.assertIn(method, vars(Plan))
-        self.assertIsInstance(vars(Plan)["steps"], property)
-        self.assertIsInstance(vars(Plan)["files"], property)
+        for name, classes in CLASSES.items():
+            module = import_module(f"lookrows.{name}")
+            for word, (methods, properties) in classes.items():
+                made = getattr(module, word)
+                self.assertEqual(made.__module__, module.__name__)
+                for method in methods.split():
+                    self.assertTrue(inspect.isfunction(vars(made)[method]), (word, method))
+                for method in properties.split():
+                    self.assertIsInstance(vars(made)[method], property, (word, method))
