@@ -1,4 +1,6 @@
-"""What several modules need: what a name and an integer is, and tables of sums along paths."""
+"""What several modules need: what a name and an integer is, strange files, and tables of sums along paths."""
+
+from lookrows.errors import NoFile
 
 LETTERS = "abcdefghijklmnopqrstuvwxyz"
 NAME_CHARACTERS = "abcdefghijklmnopqrstuvwxyz0123456789"
@@ -20,6 +22,13 @@ def is_integer(x):
 def is_count(x):
     """Whether x is an integer of at least 0."""
     return is_integer(x) and x >= 0
+
+
+def refuse_strangers(names, known):
+    """Raise NoFile for the first of these names that is not among the known ones."""
+    for name in names:
+        if not isinstance(name, str) or name not in known:
+            raise NoFile(name)
 
 
 def smaller_entries(one, two):

@@ -1,7 +1,7 @@
 """Bounds: tables that say how far the edition of one file may be ahead of that of another one."""
 
-from lookrows.basics import is_count, is_integer, is_name, least_sums, smaller_entries
-from lookrows.errors import BadName, BadNumber, NameTaken, NoFile, NoSet, SameFile
+from lookrows.basics import is_count, is_integer, is_name, least_sums, refuse_strangers, smaller_entries
+from lookrows.errors import BadName, BadNumber, NameTaken, NoSet, SameFile
 
 
 class Bounds:
@@ -32,8 +32,7 @@ class Bounds:
     def __getitem__(self, at):
         """The entry for a pair of files."""
         a, b = at
-        refuse_missing(self, a)
-        refuse_missing(self, b)
+        refuse_strangers((a, b), self._names)
         if a == b:
             return 0
         return self._entries.get((a, b))
@@ -41,8 +40,7 @@ class Bounds:
     def __setitem__(self, at, worth):
         """Set the entry for a pair of different files."""
         a, b = at
-        refuse_missing(self, a)
-        refuse_missing(self, b)
+        refuse_strangers((a, b), self._names)
         if a == b:
             raise SameFile(a)
         if worth is not None and not is_integer(worth):
@@ -81,9 +79,7 @@ class Bounds:
 
     def __call__(self, x):
         """The pairs of files whose entry is not met by the editions in x."""
-        for name in self._names:
-            if name not in x:
-                raise NoFile(name)
+        refuse_strangers(self._names, x)
         for name in self._names:
             if not is_integer(x[name]):
                 raise BadNumber(x[name])
@@ -125,8 +121,8 @@ class Bounds:
         """The least closed table that has all sets of both."""
         if not isinstance(other, Bounds):
             return NotImplemented
-        refuse_more_names(self, other)
-        refuse_more_names(other, self)
+        refuse_strangers(self._names, other._names)
+        refuse_strangers(other._names, self._names)
         if other.ring() is not None:
             return self.closed()
         if self.ring() is not None:
@@ -172,19 +168,6 @@ def bounds_from(names, entries):
     made = Bounds(names)
     made._entries = {pair: entries[pair] for pair in entries}
     return made
-
-
-def refuse_missing(bounds, name):
-    """Raise NoFile if the table has no such file."""
-    if not isinstance(name, str) or name not in bounds._names:
-        raise NoFile(name)
-
-
-def refuse_more_names(one, two):
-    """Raise NoFile for the first name of one that two does not have."""
-    for name in one._names:
-        if name not in two._names:
-            raise NoFile(name)
 
 
 def ring_below_zero(names, entries):

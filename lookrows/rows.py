@@ -1,7 +1,7 @@
 """Rows: the files at which a reader looks, one after another."""
 
-from lookrows.basics import is_count, is_name
-from lookrows.errors import BadName, BadNumber, NoFile
+from lookrows.basics import is_count, is_name, refuse_strangers
+from lookrows.errors import BadName, BadNumber
 
 
 class Row:
@@ -67,9 +67,7 @@ class Row:
 
     def before(self, a, b):
         """Whether some look at a precedes some look at b."""
-        for name in (a, b):
-            if name not in self:
-                raise NoFile(name)
+        refuse_strangers((a, b), self._last)
         return self._first[a] < self._last[b]
 
     def __le__(self, other):

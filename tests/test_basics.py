@@ -1,6 +1,7 @@
 import unittest
 
-from lookrows.basics import is_count, is_integer, is_name, least_sums, smaller_entries
+from lookrows.basics import is_count, is_integer, is_name, least_sums, refuse_strangers, smaller_entries
+from lookrows.errors import NoFile
 from tests.samples import NOT_INTEGERS, NOT_NAMES, Hostile
 
 
@@ -30,6 +31,15 @@ class BasicsTest(unittest.TestCase):
         for x in NOT_INTEGERS + [None, Hostile()]:
             self.assertIs(is_integer(x), False)
             self.assertIs(is_count(x), False)
+
+    def test_strangers(self):
+        refuse_strangers(("b", "a", "a"), ("a", "b"))
+        refuse_strangers([], [])
+        refuse_strangers(["a"], {"a": 1, None: 2})
+        for names, first in [(("a", "c", "d"), "c"), ((["a"], "c"), ["a"]), (("a", None), None), (("",), "")]:
+            with self.assertRaises(NoFile) as caught:
+                refuse_strangers(names, ("a", "b"))
+            self.assertEqual(caught.exception.name, first)
 
     def test_smaller_entries(self):
         one = {("a", "b"): 3, ("b", "a"): 1}

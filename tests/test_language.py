@@ -29,6 +29,8 @@ WORDS = {"mro", "elements", "open", "input", "law", "type", "typing", "enum", "e
 # itself.
 FUNCTIONS = {
     "plans": ["joined"], "ways": ["way", "lean", "needed"], "runs": ["watched", "counted"], "rows": ["shortest"],
+    "taking": ["taken", "run_for", "reaching"], "alike": ["parting_row", "parting_plan", "table", "plan_of"],
+    "logs": ["run_of", "sure"],
 }
 CLASSES = {
     "plans": {"Plan": (

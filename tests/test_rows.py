@@ -2,16 +2,11 @@
 
 import unittest
 from itertools import product
-from random import Random
 
 from lookrows.errors import BadName, BadNumber, NoFile
 from lookrows.rows import Row, shortest
+from tests.readers import random_rows, row_of
 from tests.samples import NOT_INTEGERS, NOT_NAMES, Hostile
-
-
-def row_of(looks):
-    """A row of looks at files with names of one character."""
-    return Row(list(looks))
 
 
 def slow_before(looks, a, b):
@@ -37,13 +32,6 @@ def slow_blocks(looks):
             block.append(tuple(sorted(stretch)))
         blocks.append(tuple(block))
     return blocks
-
-
-def random_rows(many, files, most, seed):
-    """Rows of up to so many looks at some of the files, the same ones in each run of the tests."""
-    random = Random(seed)
-    for _ in range(many):
-        yield tuple(random.choice(files) for _ in range(random.randint(0, most)))
 
 
 class RowTest(unittest.TestCase):
