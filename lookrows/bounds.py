@@ -170,6 +170,13 @@ def bounds_from(names, entries):
     return made
 
 
+def part_of(bounds, names):
+    """The table over those of its names that are among these names, with their entries; with all of them a copy."""
+    kept = [name for name in bounds._names if name in names]
+    entries = bounds._entries
+    return bounds_from(kept, {(a, b): entries[a, b] for a, b in entries if a in kept and b in kept})
+
+
 def ring_below_zero(names, entries):
     """The names of a ring whose entries have a sum below 0, in its order, or None if there is none."""
     least = {name: 0 for name in names}

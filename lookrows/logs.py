@@ -2,7 +2,7 @@
 
 from lookrows.basics import is_count, refuse_strangers
 from lookrows.errors import BadNumber, Barred
-from lookrows.runs import earlier_steps, lacking_step
+from lookrows.runs import Course
 from lookrows.ways import needed_of, way
 
 
@@ -55,9 +55,8 @@ class Showing:
 
     def __init__(self, plan, marks):
         self._marks = marks
-        self._earlier = earlier_steps(plan)
+        self._course = Course(plan)
         self._counts = least_counts(plan, [mark for log in marks for mark in log])
-        self._done = {step: 0 for step in plan.steps}
         self._next = [0 for _ in marks]
         # How many looks to come show this edition; the next occurrence has to wait for them.
         self._waiting = {}
@@ -77,7 +76,7 @@ class Showing:
                     self.look_once(reader)
             for step in self._counts:
                 while self.can_occur(step):
-                    self._done[step] = self._done[step] + 1
+                    self._course.occur(step, len(self.deeds))
                     self.deeds.append((None, step))
 
     def is_over(self):
@@ -92,7 +91,7 @@ class Showing:
         if place == len(log):
             return False
         step, edition = log[place]
-        return self._done[step] == edition
+        return self._course.done[step] == edition
 
     def look_once(self, reader):
         """Make the next look of the reader."""
@@ -104,10 +103,10 @@ class Showing:
 
     def can_occur(self, step):
         """Whether the next occurrence of the step is needed, and nothing has to precede it."""
-        done = self._done[step]
+        done = self._course.done[step]
         if done == self._counts[step] or self._waiting.get((step, done), 0) > 0:
             return False
-        return lacking_step(self._earlier[step], self._done, done + 1) is None
+        return self._course.lacking(step) is None
 
 
 def ring_of_pieces(plan, marks):

@@ -4,6 +4,42 @@ from lookrows.basics import is_count
 from lookrows.errors import BadItem, NoStep, NotYet
 
 
+class Course:
+    """How often each step of a plan has occurred so far in a run."""
+
+    def __init__(self, plan):
+        self._plan = plan
+        self._earlier = earlier_steps(plan)
+        self.done = {step: 0 for step in plan.steps}
+
+    def copy(self):
+        """A course of its own that stands where this one stands."""
+        made = Course(self._plan)
+        made.done = {step: self.done[step] for step in self.done}
+        return made
+
+    def edition(self, file):
+        """The edition of the file."""
+        return self.done[self._plan.step_of(file)]
+
+    def lacking(self, step):
+        """The first step that must occur before the next occurrence of the step is possible, or None."""
+        for p, shift in self._earlier[step]:
+            if self.done[p] < self.done[step] + 1 - shift:
+                return p
+        return None
+
+    def occur(self, step, place):
+        """Do the next occurrence of the step, which is the item at this place, and return its number."""
+        if step not in self._plan:
+            raise NoStep(step)
+        lacking = self.lacking(step)
+        if lacking is not None:
+            raise NotYet(place, lacking)
+        self.done[step] = self.done[step] + 1
+        return self.done[step]
+
+
 def watched(plan, items):
     """The looks of a run in their order, as tuples (reader, file, edition)."""
     return played(plan, items)[0]
@@ -16,24 +52,17 @@ def counted(plan, items):
 
 def played(plan, items):
     """What watched and what counted tells about a run."""
-    earlier = earlier_steps(plan)
-    done = {step: 0 for step in plan.steps}
+    course = Course(plan)
     shown = []
     for place, item in enumerate(items):
         if is_occurrence(item):
-            step = item[1]
-            if step not in plan:
-                raise NoStep(step)
-            lacking = lacking_step(earlier[step], done, done[step] + 1)
-            if lacking is not None:
-                raise NotYet(place, lacking)
-            done[step] = done[step] + 1
+            course.occur(item[1], place)
         elif is_look(item):
             _, reader, file = item
-            shown.append((reader, file, done[plan.step_of(file)]))
+            shown.append((reader, file, course.edition(file)))
         else:
             raise BadItem(place)
-    return shown, done
+    return shown, course.done
 
 
 def is_occurrence(item):
@@ -57,11 +86,3 @@ def earlier_steps(plan):
     for p, q, shift in plan.rules():
         earlier[q].append((p, shift))
     return earlier
-
-
-def lacking_step(pairs, done, number):
-    """The first step of these pairs (p, shift) that must occur before occurrence number is possible, or None."""
-    for p, shift in pairs:
-        if done[p] < number - shift:
-            return p
-    return None

@@ -1,6 +1,5 @@
 """parting_row, parting_plan, table and plan_of: promises [40] to [43]."""
 
-import unittest
 from itertools import permutations, product
 from random import Random
 
@@ -11,6 +10,7 @@ from lookrows.plans import Plan
 from lookrows.rows import Row, shortest
 from lookrows.taking import taken
 from tests import samples
+from tests.cases import ANY, Case
 from tests.readers import drawn_plan, random_rows, row_of
 from tests.samples import bounds_of, entries, great_plan, has_set, random_bounds, ring_sum, slow_closed, slow_least
 from tests.samples import state
@@ -36,21 +36,7 @@ def renamed(random, plan):
     return made
 
 
-class AlikeTest(unittest.TestCase):
-    def refused(self, error, told, function, *values):
-        with self.assertRaises(error) as caught:
-            function(*values)
-        self.assertIs(caught.exception.__class__, error)
-        if error is NoFile:
-            self.assertEqual(caught.exception.name, told)
-        if error is BadNumber:
-            self.assertEqual(caught.exception.value, told)
-        if error is NotKept:
-            self.assertEqual((caught.exception.first, caught.exception.second), told)
-        return caught.exception
-
-
-class PartingRowTest(AlikeTest):
+class PartingRowTest(Case):
     def parted(self, one, two):
         """The row that parts the plans does so; asked both ways."""
         for first, second in [(one, two), (two, one)]:
@@ -133,7 +119,7 @@ class PartingRowTest(AlikeTest):
         self.refused(NoFile, "a", parting_row, Plan(), one)
 
 
-class PartingPlanTest(AlikeTest):
+class PartingPlanTest(Case):
     def parted(self, one, two):
         for first, second in [(one, two), (two, one)]:
             before = first.looks, second.looks
@@ -193,7 +179,7 @@ class PartingPlanTest(AlikeTest):
         self.refused(NoFile, "a", parting_plan, row_of(""), row_of("aa"))
 
 
-class TableTest(AlikeTest):
+class TableTest(Case):
     def test_small_tables(self):
         self.assertEqual(entries(table(Plan())), ((), {}))
         self.assertEqual(entries(table(samples.plan_of([("p", "a")]))), (("a",), {}))
@@ -228,7 +214,7 @@ class TableTest(AlikeTest):
                 self.assertTrue(less[a, b] is None or found[a, b] is not None and found[a, b] <= less[a, b])
 
 
-class PlanOfTest(AlikeTest):
+class PlanOfTest(Case):
     def check(self, bounds):
         """The plan of the bounds is what the document says."""
         before = entries(bounds)
@@ -285,7 +271,7 @@ class PlanOfTest(AlikeTest):
         self.refused(NotKept, ("a", "b"), plan_of, bounds_of("c a b", ("a", "b", -2), ("c", "b", 101), ("c", "a", 100)))
         self.refused(BadNumber, 101, plan_of, bounds_of("c a b", ("a", "b", 102), ("c", "b", 101)))
         bounds = bounds_of("a b c", ("a", "b", -1), ("b", "a", 0), ("a", "c", 100))
-        members = self.refused(NoSet, None, plan_of, bounds).members
+        members = self.refused(NoSet, ANY, plan_of, bounds).members
         self.assertLess(ring_sum(bounds, members), 0)
 
     def test_drawn_tables(self):
@@ -301,7 +287,7 @@ class PlanOfTest(AlikeTest):
                     made += 1
                     self.check(bounds)
             else:
-                self.refused(NoSet, None, plan_of, bounds)
+                self.refused(NoSet, ANY, plan_of, bounds)
         self.assertGreater(min(made, refused), 40)
 
     def test_plans_and_their_tables(self):

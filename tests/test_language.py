@@ -30,7 +30,8 @@ WORDS = {"mro", "elements", "open", "input", "law", "type", "typing", "enum", "e
 FUNCTIONS = {
     "plans": ["joined"], "ways": ["way", "lean", "needed"], "runs": ["watched", "counted"], "rows": ["shortest"],
     "taking": ["taken", "run_for", "reaching"], "alike": ["parting_row", "parting_plan", "table", "plan_of"],
-    "logs": ["run_of", "sure"],
+    "logs": ["run_of", "sure"], "wishes": ["broken", "unkept", "fewest_looks", "bridged"], "desks": ["tried"],
+    "times": ["timed_watched", "timed_taken", "timed_run_for", "older"],
 }
 CLASSES = {
     "plans": {"Plan": (
@@ -46,6 +47,14 @@ CLASSES = {
     "rows": {"Row": (
         "__init__ before blocks __getitem__ __len__ __contains__ __add__ __mul__ __rmul__ __neg__ __eq__ __le__",
         "looks files",
+    )},
+    "times": {"Timed": ("__init__ __getitem__ __setitem__ least within", "plan")},
+    "desks": {"Desk": (
+        "__init__ enter do look __getitem__ __len__ told passes possible known __iadd__ back trial want broken",
+        "readers wanted",
+    )},
+    "books": {"Book": (
+        "__init__ __getitem__ __setitem__ __contains__ __len__ change written report keeping", "plan wishes names",
     )},
 }
 # How sorted, min and max may be asked beside classes with an order: with numbers or strings that are plainly such.
@@ -171,3 +180,5 @@ class LanguageTest(unittest.TestCase):
                     self.assertTrue(inspect.isfunction(vars(made)[method]), (word, method))
                 for method in properties.split():
                     self.assertIsInstance(vars(made)[method], property, (word, method))
+        self.assertIsInstance(vars(import_module("lookrows.books").Book)["read"], classmethod)
+        self.assertIsNotNone(import_module("lookrows.desks").Desk.wanted.fset)

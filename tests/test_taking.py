@@ -1,6 +1,5 @@
 """taken, run_for and reaching: promises [34] to [39]."""
 
-import unittest
 from itertools import product
 from random import Random
 
@@ -10,6 +9,7 @@ from lookrows.plans import Plan
 from lookrows.rows import Row
 from lookrows.runs import watched
 from lookrows.taking import reaching, run_for, taken
+from tests.cases import ANY, Case
 from tests.readers import check_pieces, drawn_plan, drawn_run, random_rows, row_of, slow_taken
 from tests.samples import (
     NOT_INTEGERS, Hostile, bounds_of, entries, great_plan, has_set, plan_of, ring_sum, slow_closed, slow_entry,
@@ -34,19 +34,7 @@ def small_readers(many, seed):
         yield drawn_plan(random, random.randint(1, 3), 4, 2), Row(looks)
 
 
-class TakingTest(unittest.TestCase):
-    def refused(self, error, told, function, *values, **more):
-        with self.assertRaises(error) as caught:
-            function(*values, **more)
-        self.assertIs(caught.exception.__class__, error)
-        if error is BadNumber:
-            self.assertIs(caught.exception.value, told)
-        elif isinstance(told, str):
-            self.assertEqual(caught.exception.name, told)
-        elif error in (NoFile, SameFile):
-            self.assertIs(caught.exception.name, told)
-        return caught.exception
-
+class TakingTest(Case):
     def right_run(self, plan, row, editions, items):
         """The items are a run with just the looks of the row, which show the editions."""
         self.assertIsInstance(items, list)
@@ -80,7 +68,8 @@ class TakenTest(TakingTest):
         plan = plan_of([("p", "a"), ("q", "b"), ("r", "c")], ("p", "r", 9), ("q", "p", 1))
         checks = bounds_of("c b", ("b", "c", 2))
         self.assertEqual(entries(taken(plan, row_of("cab"), checks)), (
-            ("c", "a", "b"), {("c", "a"): 9, ("c", "b"): 10, ("a", "b"): 1, ("a", "c"): 3, ("b", "c"): 2, ("b", "a"): 11},
+            ("c", "a", "b"),
+            {("c", "a"): 9, ("c", "b"): 10, ("a", "b"): 1, ("a", "c"): 3, ("b", "c"): 2, ("b", "a"): 11},
         ))
 
     def test_rows_without_looks_and_with_one_file(self):
@@ -175,7 +164,7 @@ class ChecksTest(TakingTest):
             if not has_set(whole):
                 empty += 1
                 self.assertEqual(expected, [])
-                members = self.refused(NoSet, None, taken, plan, row, checks).members
+                members = self.refused(NoSet, ANY, taken, plan, row, checks).members
                 self.assertIsInstance(members, tuple)
                 self.assertEqual(len(set(members)), len(members))
                 self.assertLess(ring_sum(whole, members), 0)
@@ -188,7 +177,7 @@ class ChecksTest(TakingTest):
     def test_a_ring_below_zero(self):
         plan = plan_of([("p", "a"), ("q", "b")], ("p", "q", 2))
         taken(plan, row_of("ba"), bounds_of("a b", ("a", "b", -2)))
-        members = self.refused(NoSet, None, taken, plan, row_of("ba"), bounds_of("a b", ("a", "b", -3))).members
+        members = self.refused(NoSet, ANY, taken, plan, row_of("ba"), bounds_of("a b", ("a", "b", -3))).members
         self.assertIn(members, [("a", "b"), ("b", "a")])
         taken(plan, row_of("ab"), bounds_of("a b", ("a", "b", -3)))
 
@@ -201,7 +190,7 @@ class ChecksTest(TakingTest):
         self.refused(NoFile, "b", taken, plan, row_of("a"), bounds_of("b a"))
         self.refused(NoFile, "z", taken, plan, row_of("ab"), bounds_of("b z a", ("a", "b", -1), ("b", "a", 0)))
         self.refused(NoFile, "y", taken, plan, row_of("aba"), bounds_of("y x"))
-        self.refused(NoSet, None, taken, plan, row_of("ab"), bad)
+        self.refused(NoSet, ANY, taken, plan, row_of("ab"), bad)
         self.refused(NoFile, "x", taken, plan, row_of("xab"), bad)
 
 
@@ -226,8 +215,8 @@ class KeptTest(TakingTest):
         reaching(plan, row, "a", "b").clear()
         self.right_run(plan, row, editions, run_for(plan, row, editions))
         self.assertEqual(editions, {"a": 2, "b": 3})
-        self.refused(Barred, None, run_for, plan, row, {"a": 0, "b": 2})
-        self.refused(NoSet, None, taken, plan, row, bounds_of("a b", ("a", "b", -2)))
+        self.refused(Barred, ANY, run_for, plan, row, {"a": 0, "b": 2})
+        self.refused(NoSet, ANY, taken, plan, row, bounds_of("a b", ("a", "b", -2)))
         self.assertEqual((state(plan), entries(checks), row.looks), before)
 
 
@@ -262,7 +251,7 @@ class RunForTest(TakingTest):
                     self.right_run(plan, row, editions, run_for(plan, row, editions))
                 else:
                     barred += 1
-                    pieces = self.refused(Barred, None, run_for, plan, row, editions).pieces
+                    pieces = self.refused(Barred, ANY, run_for, plan, row, editions).pieces
                     self.right_piece(plan, row, editions, pieces)
         self.assertGreater(min(taking, barred), 500)
 
@@ -277,19 +266,19 @@ class RunForTest(TakingTest):
 
     def test_what_bars_a_set(self):
         plan = plan_of([("p", "a"), ("q", "b"), ("r",), ("s", "c")], ("p", "r", 1), ("r", "q", 2), ("s", "p", 0))
-        pieces = self.refused(Barred, None, run_for, plan, row_of("ba"), {"a": 2, "b": 6}).pieces
+        pieces = self.refused(Barred, ANY, run_for, plan, row_of("ba"), {"a": 2, "b": 6}).pieces
         self.assertEqual(pieces, ((0, 0, 1, ("p", "r", "q")),))
         self.right_run(plan, row_of("ba"), {"a": 2, "b": 5}, run_for(plan, row_of("ba"), {"a": 2, "b": 5}))
         # Only the second look at a comes behind the look at b.
-        pieces = self.refused(Barred, None, run_for, plan, row_of("aaba"), {"a": 0, "b": 4}).pieces
+        pieces = self.refused(Barred, ANY, run_for, plan, row_of("aaba"), {"a": 0, "b": 4}).pieces
         self.assertEqual(pieces, ((0, 2, 3, ("p", "r", "q")),))
-        pieces = self.refused(Barred, None, run_for, plan, row_of("bacaba"), {"a": 3, "b": 5, "c": 2}).pieces
+        pieces = self.refused(Barred, ANY, run_for, plan, row_of("bacaba"), {"a": 3, "b": 5, "c": 2}).pieces
         self.right_piece(plan, row_of("bacaba"), {"a": 3, "b": 5, "c": 2}, pieces)
         self.assertIn(pieces[0][1:], [(1, 2, ("s", "p"))])
 
     def test_files_of_one_step(self):
         plan = plan_of([("p", "a", "b")])
-        pieces = self.refused(Barred, None, run_for, plan, row_of("ab"), {"a": 60, "b": 59}).pieces
+        pieces = self.refused(Barred, ANY, run_for, plan, row_of("ab"), {"a": 60, "b": 59}).pieces
         self.assertEqual(pieces, ((0, 0, 1, ("p",)),))
         self.right_run(plan, row_of("ab"), {"a": 59, "b": 60}, run_for(plan, row_of("ab"), {"a": 59, "b": 60}))
 
@@ -305,7 +294,7 @@ class RunForTest(TakingTest):
                     count += 1
                     self.right_run(plan, row, x, run_for(plan, row, x))
                 else:
-                    self.right_piece(plan, row, x, self.refused(Barred, None, run_for, plan, row, x).pieces)
+                    self.right_piece(plan, row, x, self.refused(Barred, ANY, run_for, plan, row, x).pieces)
         self.assertGreater(count, 5)
         self.right_run(plan, row_of(["f1"]), {"f1": 300}, run_for(plan, row_of(["f1"]), {"f1": 300}))
 
