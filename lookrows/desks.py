@@ -4,7 +4,7 @@ from lookrows.basics import is_count, is_name, refuse_strangers
 from lookrows.bounds import part_of
 from lookrows.errors import BadItem, BadName, BadNumber, EmptyRow, NameTaken, NoReader, NothingBack
 from lookrows.logs import least_editions
-from lookrows.runs import Course, begins_with, is_occurrence
+from lookrows.runs import Course, begins_with, is_occurrence, same_course
 
 
 class Desk:
@@ -69,7 +69,7 @@ class Desk:
 
     def __iadd__(self, other):
         """Do the items of a list one after another, or none of them if one is wrong."""
-        story = self._story.copy()
+        story = same_story(self._story)
         perform(story, other)
         self._story = story
         return self
@@ -117,7 +117,7 @@ class Desk:
 
 def tried(desk, items):
     """The editions that the looks among these items would show; the desk stays as it is."""
-    return perform(desk._story.copy(), items)
+    return perform(same_story(desk._story), items)
 
 
 class Story:
@@ -135,17 +135,6 @@ class Story:
         # For each reader the place of the next look, and the editions that this pass has shown so far. These dicts
         # are replaced and not changed, so that copies may share them.
         self._stands = {}
-
-    def copy(self):
-        """A story of its own with the same past."""
-        made = Story(self._plan)
-        made.course = self.course.copy()
-        made.rows = {reader: self.rows[reader] for reader in self.rows}
-        made.deeds = list(self.deeds)
-        made.shown = list(self.shown)
-        made.ended = list(self.ended)
-        made._stands = {reader: self._stands[reader] for reader in self._stands}
-        return made
 
     def enter(self, reader, looks):
         """Add a reader with a row of these looks."""
@@ -194,7 +183,7 @@ class Trial:
         desk = self._desk
         self._kept_story = desk._story
         self._kept_wanted = desk._wanted
-        desk._story = desk._story.copy()
+        desk._story = same_story(desk._story)
         return self
 
     def __exit__(self, kind, value, trace):
@@ -225,6 +214,18 @@ def perform(story, items):
 def is_reader_look(item):
     """Whether the item has the form ("look", reader) with a string."""
     return begins_with(item, "look") and len(item) == 2 and isinstance(item[1], str)
+
+
+def same_story(story):
+    """A story of its own with the same past."""
+    made = Story(story._plan)
+    made.course = same_course(story.course)
+    made.rows = {reader: story.rows[reader] for reader in story.rows}
+    made.deeds = list(story.deeds)
+    made.shown = list(story.shown)
+    made.ended = list(story.ended)
+    made._stands = {reader: story._stands[reader] for reader in story._stands}
+    return made
 
 
 def shortened(plan, story, count):

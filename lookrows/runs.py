@@ -12,12 +12,6 @@ class Course:
         self._earlier = earlier_steps(plan)
         self.done = {step: 0 for step in plan.steps}
 
-    def copy(self):
-        """A course of its own that stands where this one stands."""
-        made = Course(self._plan)
-        made.done = {step: self.done[step] for step in self.done}
-        return made
-
     def edition(self, file):
         """The edition of the file."""
         return self.done[self._plan.step_of(file)]
@@ -38,6 +32,13 @@ class Course:
             raise NotYet(place, lacking)
         self.done[step] = self.done[step] + 1
         return self.done[step]
+
+
+def same_course(course):
+    """A course of its own that stands where this one stands."""
+    made = Course(course._plan)
+    made.done = {step: course.done[step] for step in course.done}
+    return made
 
 
 def watched(plan, items):

@@ -31,8 +31,8 @@ def fewest_looks(plan, wishes, *files):
     refuse_strangers(files, plan.files)
     lost = unkept(plan, wishes)
     if lost:
-        a, b = lost[0]
-        raise NotKept(a, b)
+        first, second = lost[0]
+        raise NotKept(first, second)
     asked = tuple({file: True for file in wishes.names + files})
     bridges = {
         (a, b): [file for file in plan.files if is_bridged(plan, wishes, a, b, file)] for a, b in wished_pairs(wishes)
@@ -86,11 +86,9 @@ def subsets(files):
 
 
 def unbridged_pairs(bridges, outer):
-    """The pairs of files that are not among outer and that no file of outer bridges."""
-    return [
-        (a, b) for a, b in bridges
-        if a not in outer and b not in outer and not any([file in outer for file in bridges[a, b]])
-    ]
+    """The pairs of files that no file of outer bridges."""
+    # Both files of a pair bridge it themselves, so that no file of outer is left in such a pair.
+    return [pair for pair in bridges if not any([file in outer for file in bridges[pair]])]
 
 
 def kept_order(files, pairs):
